@@ -1,0 +1,1 @@
+"""Onecable: sharing one charging cable, for all comings of cars."""

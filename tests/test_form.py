@@ -1,0 +1,156 @@
+"""What a program can check of the language subset that the package is written in.
+
+The numbers are those of the rules of ../shared/LANGUAGE.md.
+"""
+
+import ast
+import builtins
+import unittest
+from pathlib import Path
+
+ROOT = Path(__file__).resolve().parent.parent
+FOLDER = ROOT / "onecable"
+FILES = {path.name: path.read_text(encoding="utf-8") for path in sorted(FOLDER.glob("*.py"))}
+TREES = {name: ast.parse(text) for name, text in FILES.items()}
+
+BUILTINS = """len range enumerate zip min max sum abs sorted reversed int str bool bytes list tuple dict set
+frozenset isinstance ord repr any all divmod pow getattr hasattr setattr iter next super property staticmethod
+classmethod map Exception ValueError TypeError KeyError IndexError LookupError ZeroDivisionError ArithmeticError
+OverflowError RuntimeError NotImplementedError AttributeError StopIteration NotImplemented""".split()
+
+DOUBLE = """init eq repr str len enter exit call iter lt le gt ge ne add sub mul floordiv mod pow and or xor lshift
+rshift radd rsub rmul rfloordiv rmod rand ror rxor rlshift rrshift iadd isub imul ifloordiv imod iand ior ixor
+ilshift irshift neg pos invert abs bool contains getitem setitem""".split()
+
+LIBRARY = {
+    "heapq": "heappush heappop heapify heapreplace heappushpop".split(),
+    "math": "gcd lcm isqrt comb perm factorial".split(),
+    "itertools": "chain accumulate pairwise islice zip_longest".split(),
+    "collections": ["defaultdict"],
+}
+
+BARRED_NAMES = """register mro elements open input law version_info with_traceback add_note attrgetter breakpoint
+builtins compile copyright credits delattr dir eval exec exit gc globals help id importlib license locals
+methodcaller os quit type vars sys""".split()
+
+BARRED_NODES = (ast.Global, ast.AsyncFunctionDef, ast.Await, ast.AsyncFor, ast.AsyncWith, ast.Div, ast.MatMult,
+                ast.Import)
+
+
+def nodes(*kinds):
+    return [(name, node) for name, tree in TREES.items() for node in ast.walk(tree) if isinstance(node, kinds)]
+
+
+def bound_names():
+    found = [(name, node.id) for name, node in nodes(ast.Name) if isinstance(node.ctx, ast.Store)]
+    found += [(name, node.arg) for name, node in nodes(ast.arg)]
+    found += [(name, node.name) for name, node in nodes(ast.FunctionDef, ast.ClassDef)]
+    return found
+
+
+class Files(unittest.TestCase):
+    def test_folder(self):
+        found = sorted(path.name for path in FOLDER.iterdir() if path.name != "__pycache__")
+        self.assertEqual(found, sorted(FILES))
+        self.assertIn("__init__.py", found)
+
+    def test_sizes_and_characters(self):
+        for name, text in FILES.items():
+            lines = text.split("\n")
+            self.assertLessEqual(len(lines), 399, name)
+            self.assertLessEqual(max(len(line) for line in lines), 120, name)
+            self.assertTrue(all(mark == "\n" or " " <= mark <= "~" for mark in text), name)
+            self.assertNotIn("_wall", text, name)
+
+    def test_functions_are_short(self):
+        for name, node in nodes(ast.FunctionDef):
+            self.assertLessEqual(node.end_lineno - node.lineno + 1, 40, f"{name} {node.name}")
+
+
+class Statements(unittest.TestCase):
+    def test_module_level(self):
+        allowed = (ast.ImportFrom, ast.FunctionDef, ast.ClassDef, ast.Assign)
+        for name, tree in TREES.items():
+            for statement in tree.body[1:]:
+                self.assertIsInstance(statement, allowed, f"{name} {statement.lineno}")
+            self.assertIsNotNone(ast.get_docstring(tree), name)
+
+    def test_imports(self):
+        for name, node in nodes(ast.ImportFrom):
+            self.assertEqual(node.level, 0, name)
+            for alias in node.names:
+                self.assertIsNone(alias.asname, name)
+                if node.module in LIBRARY:
+                    self.assertIn(alias.name, LIBRARY[node.module], name)
+                else:
+                    self.assertDefined(node.module, alias.name)
+
+    def assertDefined(self, module, wanted):
+        package, file = module.split(".")
+        self.assertEqual(package, "onecable")
+        tree = TREES[file + ".py"]
+        defined = [node.name for node in tree.body if isinstance(node, (ast.FunctionDef, ast.ClassDef))]
+        defined += [target.id for node in tree.body if isinstance(node, ast.Assign) for target in node.targets]
+        self.assertIn(wanted, defined)
+
+    def test_barred_statements(self):
+        self.assertEqual([(name, node) for name, node in nodes(*BARRED_NODES)], [])
+
+    def test_decorators(self):
+        for name, node in nodes(ast.FunctionDef, ast.ClassDef):
+            for decorator in node.decorator_list:
+                if isinstance(decorator, ast.Attribute):
+                    self.assertEqual(decorator.attr, "setter", name)
+                else:
+                    self.assertIn(decorator.id, ("property", "staticmethod", "classmethod"), name)
+
+    def test_errors_are_caught_by_name(self):
+        for name, node in nodes(ast.ExceptHandler):
+            self.assertIsNotNone(node.type, f"{name} {node.lineno}")
+
+
+class Names(unittest.TestCase):
+    def test_builtins(self):
+        for name, node in nodes(ast.Name):
+            if hasattr(builtins, node.id):
+                self.assertIn(node.id, BUILTINS, f"{name} {node.lineno}")
+
+    def test_no_builtin_is_bound(self):
+        for name, bound in bound_names():
+            if not bound.startswith("__"):
+                self.assertFalse(hasattr(builtins, bound), f"{name} {bound}")
+            self.assertNotIn(bound, BARRED_NAMES, name)
+
+    def test_double_underscores(self):
+        for name, bound in bound_names():
+            if bound.startswith("__"):
+                self.assertIn(bound, [f"__{word}__" for word in DOUBLE], name)
+
+    def test_plain_names(self):
+        for name, bound in bound_names():
+            self.assertTrue(bound.isascii(), f"{name} {bound}")
+
+
+class Values(unittest.TestCase):
+    def test_no_floats(self):
+        for name, node in nodes(ast.Constant):
+            self.assertNotIsInstance(node.value, (float, complex), f"{name} {node.lineno}")
+
+    def test_strings(self):
+        for name, node in nodes(ast.Constant):
+            if isinstance(node.value, str):
+                self.assertNotIn("%", node.value, f"{name} {node.lineno}")
+
+    def test_getitem_goes_with_iter(self):
+        for name, node in nodes(ast.ClassDef):
+            methods = [part.name for part in node.body if isinstance(part, ast.FunctionDef)]
+            if "__getitem__" in methods:
+                self.assertIn("__iter__", methods, f"{name} {node.name}")
+
+    def test_no_sort_in_place(self):
+        for name, node in nodes(ast.Attribute):
+            self.assertNotIn(node.attr, ("sort", "format", "mro", "args"), f"{name} {node.lineno}")
+
+
+if __name__ == "__main__":
+    unittest.main()
