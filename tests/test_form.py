@@ -48,6 +48,16 @@ def bound_names():
     return found
 
 
+def is_plain(call):
+    """True if what the call of sorted, min or max compares is plainly numbers."""
+    keys = [keyword.value.id for keyword in call.keywords
+            if keyword.arg == "key" and isinstance(keyword.value, ast.Name)]
+    first = call.args[0]
+    if isinstance(first, ast.ListComp):
+        return isinstance(first.elt, ast.Call) and first.elt.func.id in ("int", "len")
+    return keys in (["int"], ["len"]) or len(call.args) == 2 and isinstance(first, ast.Constant)
+
+
 class Files(unittest.TestCase):
     def test_folder(self):
         found = sorted(path.name for path in FOLDER.iterdir() if path.name != "__pycache__")
@@ -92,6 +102,16 @@ class Statements(unittest.TestCase):
         defined = [node.name for node in tree.body if isinstance(node, (ast.FunctionDef, ast.ClassDef))]
         defined += [target.id for node in tree.body if isinstance(node, ast.Assign) for target in node.targets]
         self.assertIn(wanted, defined)
+
+    def test_no_circle_of_imports(self):
+        imported = {name: {node.module.split(".")[1] + ".py" for node in ast.walk(tree)
+                           if isinstance(node, ast.ImportFrom) and node.module.startswith("onecable.")}
+                    for name, tree in TREES.items()}
+        left = set(imported)
+        while left:
+            ready = {name for name in left if not imported[name] & left}
+            self.assertNotEqual(ready, set(), f"a circle among {sorted(left)}")
+            left -= ready
 
     def test_barred_statements(self):
         self.assertEqual([(name, node) for name, node in nodes(*BARRED_NODES)], [])
@@ -140,6 +160,16 @@ class Values(unittest.TestCase):
         for name, node in nodes(ast.Constant):
             if isinstance(node.value, str):
                 self.assertNotIn("%", node.value, f"{name} {node.lineno}")
+
+    def test_no_generator_expressions(self):
+        # Classes of the package have an __eq__, so any, all, min, max, sum and sorted take lists (L7).
+        self.assertEqual([name for name, _ in nodes(ast.GeneratorExp)], [])
+
+    def test_sorted_min_and_max_take_plain_numbers(self):
+        # A class of the package has an order (L5): so key=int, int(..) of each member, or one plain number of two.
+        for name, node in nodes(ast.Call):
+            if isinstance(node.func, ast.Name) and node.func.id in ("sorted", "min", "max"):
+                self.assertTrue(is_plain(node), f"{name} {node.lineno}")
 
     def test_getitem_goes_with_iter(self):
         for name, node in nodes(ast.ClassDef):
