@@ -16,6 +16,11 @@ def serve_hour(cars, served):
     return (tuple(remaining), short)
 
 
+def rule_hour(cars, rule, width):
+    """The same as serve_hour gives, where the rule picks the served cars."""
+    return serve_hour(cars, rule.serve(cars, width))
+
+
 def _coming(plan, hour):
     """The ascending numbers of the cars that come in the hour."""
     return [number for number, (come, _, _) in enumerate(plan.cars) if come == hour]

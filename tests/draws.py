@@ -1,5 +1,10 @@
 """Numbers that look drawn and are the same in every run, for the tests that try many inputs."""
 
+from onecable.kinds import Kind
+from onecable.rows import Row
+from onecable.rules import Rule
+from onecable.yards import Yard
+
 
 class Draws:
     def __init__(self, seed):
@@ -25,3 +30,27 @@ class Draws:
             stay = self.number(1, longest)
             cars.append((self.number(0, last), stay, self.number(1, stay)))
         return cars
+
+    def kinds(self, many, longest=4):
+        """So many kinds of cars that stay at most `longest` hours."""
+        kinds = []
+        for name in "abcdef"[:many]:
+            stay = self.number(1, longest)
+            kinds.append(Kind(name, stay, self.number(1, stay)))
+        return kinds
+
+    def yard(self, width, longest=4, batches=3):
+        """A yard with 1 to 3 kinds and 1 to `batches` batches."""
+        kinds = self.kinds(self.number(1, 3), longest)
+        menu = [(name, [self.one_of(kinds).name for _ in range(self.number(1, 3))])
+                for name in ("x", "y", "z", "u")[:self.number(1, batches)]]
+        return Yard(width, kinds, menu)
+
+    def rule(self, most=3):
+        """A rule of 0 to `most` terms."""
+        words = self.some_of(["stay", "need", "left", "want", "here", "got", "slack"], self.number(0, most))
+        return Rule([(self.one_of(["least", "most"]), word) for word in words])
+
+    def row(self, yard, many):
+        """A row of so many letters of the yard, fair or not."""
+        return Row([self.number(0, yard.letter_count - 1) for _ in range(many)])

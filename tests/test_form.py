@@ -48,14 +48,45 @@ def bound_names():
     return found
 
 
+def is_number(node):
+    """True if the expression is plainly a number, a call of int or len."""
+    return isinstance(node, ast.Call) and isinstance(node.func, ast.Name) and node.func.id in ("int", "len")
+
+
 def is_plain(call):
     """True if what the call of sorted, min or max compares is plainly numbers."""
     keys = [keyword.value.id for keyword in call.keywords
             if keyword.arg == "key" and isinstance(keyword.value, ast.Name)]
     first = call.args[0]
     if isinstance(first, ast.ListComp):
-        return isinstance(first.elt, ast.Call) and first.elt.func.id in ("int", "len")
+        return is_number(first.elt)
+    if isinstance(first, ast.List):
+        return all(is_number(part) for part in first.elts)
     return keys in (["int"], ["len"]) or len(call.args) == 2 and isinstance(first, ast.Constant)
+
+
+class Class:
+    """What a class of the package has, by the names."""
+
+    def __init__(self, node):
+        self.name = node.name
+        self.bases = [base.id for base in node.bases]
+        functions = [part for part in node.body if isinstance(part, ast.FunctionDef)]
+        self.properties = {part.name for part in functions if "property" in decorators(part)}
+        self.methods = {part.name for part in functions} - self.properties
+        self.attributes = {part.attr for part in ast.walk(node)
+                           if isinstance(part, ast.Attribute) and isinstance(part.ctx, ast.Store)}
+
+    def family(self):
+        """The class and those above it."""
+        return [self] + [above for base in self.bases if base in CLASSES for above in CLASSES[base].family()]
+
+
+def decorators(node):
+    return [decorator.id for decorator in node.decorator_list if isinstance(decorator, ast.Name)]
+
+
+CLASSES = {node.name: Class(node) for _, node in nodes(ast.ClassDef)}
 
 
 class Files(unittest.TestCase):
@@ -149,6 +180,43 @@ class Names(unittest.TestCase):
     def test_plain_names(self):
         for name, bound in bound_names():
             self.assertTrue(bound.isascii(), f"{name} {bound}")
+
+
+class Classes(unittest.TestCase):
+    def test_no_name_is_a_method_and_an_attribute(self):
+        for name, one in CLASSES.items():
+            attributes = set().union(*[above.attributes for above in one.family()])
+            methods = set().union(*[above.methods | above.properties for above in one.family()])
+            self.assertEqual(attributes & methods, set(), name)
+
+    def test_a_property_shares_its_name_with_no_method_and_no_attribute(self):
+        properties = set().union(*[one.properties for one in CLASSES.values()])
+        for name, one in CLASSES.items():
+            self.assertEqual(properties & (one.methods | one.attributes), set(), name)
+
+    def test_attributes_that_are_read_are_assigned(self):
+        known = set().union(*[one.methods | one.properties | one.attributes for one in CLASSES.values()])
+        known |= {target.id for _, node in nodes(ast.ClassDef) for part in node.body if isinstance(part, ast.Assign)
+                  for target in part.targets}
+        for name, node in nodes(ast.Attribute):
+            built_in = any(hasattr(kind, node.attr) for kind in (str, list, dict, tuple, set, int))
+            self.assertTrue(node.attr in known or built_in or node.attr == "__init__", f"{name} {node.attr}")
+
+    def test_len_returns_a_len(self):
+        for name, node in nodes(ast.FunctionDef):
+            if node.name == "__len__":
+                self.assertTrue(all(is_number(part.value) for part in ast.walk(node) if isinstance(part, ast.Return)))
+
+    def test_is_stands_beside_none_only(self):
+        for name, node in nodes(ast.Compare):
+            for operator, right in zip(node.ops, node.comparators):
+                if isinstance(operator, (ast.Is, ast.IsNot)):
+                    self.assertTrue(isinstance(right, ast.Constant) and right.value in (None, True, False),
+                                    f"{name} {node.lineno}")
+
+    def test_only_own_errors_are_caught(self):
+        for name, node in nodes(ast.ExceptHandler):
+            self.assertIn(node.type.id, CLASSES, f"{name} {node.lineno}")
 
 
 class Values(unittest.TestCase):
