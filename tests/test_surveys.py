@@ -222,6 +222,14 @@ class LeastSpare(SurveyTest):
         self.refuses_to_make(least_spare, BEHIND, MOST_SLACK, most=many - 1)
         self.assertEqual(least_spare(BEHIND, MOST_SLACK, most=1000), least_spare(BEHIND, MOST_SLACK))
 
+    def test_most_is_400_if_not_given(self):
+        yard = make_yard(3, Kind("a", 4, 1), Kind("b", 4, 3), Kind("c", 3, 2), Kind("d", 2, 1), Kind("e", 4, 2),
+                         x=["a", "b"], y=["c", "d"], z=["e"], u=["a", "c", "e"])
+        for call in (Survey, least_spare):
+            with self.assertRaises(TooManyStates) as caught:
+                call(yard, Rule.parse("least slack"))
+            self.assertEqual(caught.exception.most, 400)
+
     def test_only_surveys_that_are_tried_count(self):
         # Whatever most is, the answer is that of the surveys tried before, or the error of the first that fails.
         for yard, rule, _, _ in self.DRAWN[:20]:
