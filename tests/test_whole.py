@@ -1,4 +1,4 @@
-"""The whole program: points 1, 2, 17, 21, 24, 28, 29 and 33 on drawn yards and rules, and all names of the interface."""
+"""The whole program: points 1, 2, 17, 21, 24, 28, 29 and 33 on drawn yards, and all names of the interface."""
 
 import importlib
 import unittest
@@ -250,7 +250,8 @@ class Objects(unittest.TestCase):
             self.assertEqual(again.total(made_row), total)
             self.assertEqual(desk.admit(yard.kinds[0].name), 0)
             if contest is not None:
-                self.assertEqual(contest.total(made_row), again.total(made_row) - Survey(yard, Rule([])).total(made_row))
+                other = Survey(yard, Rule([])).total(made_row)
+                self.assertEqual(contest.total(made_row), total - other)
 
     def test_failed_calls_change_nothing(self):
         for yard, rule, survey in drawn(417, 15):
