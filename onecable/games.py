@@ -16,17 +16,20 @@ def _ascending(pairs):
     return tuple([(code // _BASE, code % _BASE) for code in codes])
 
 
+def _longer(begun, pairs):
+    """The begun ways (pairs taken, place behind the last one), each with one more of the pairs from its place on."""
+    # Of equal pairs only the first one that is left, since the others give the same way.
+    return [
+        (taken + (pairs[place],), place + 1) for taken, start in begun for place in range(start, len(pairs))
+        if place == start or pairs[place] != pairs[place - 1]
+    ]
+
+
 def _choices(pairs, many):
     """All ways to take so many of the ascending pairs, in ascending order and each once."""
     begun = [((), 0)]
     for _ in range(many):
-        longer = []
-        for taken, start in begun:
-            for place in range(start, len(pairs)):
-                # Of equal pairs only the first one that is left, since the others give the same way.
-                if place == start or pairs[place] != pairs[place - 1]:
-                    longer.append((taken + (pairs[place],), place + 1))
-        begun = longer
+        begun = _longer(begun, pairs)
     return [taken for taken, _ in begun]
 
 

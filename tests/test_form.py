@@ -36,6 +36,12 @@ methodcaller os quit type vars sys""".split()
 BARRED_NODES = (ast.Global, ast.AsyncFunctionDef, ast.Await, ast.AsyncFor, ast.AsyncWith, ast.Div, ast.MatMult,
                 ast.Import)
 
+SEEN_THROUGH = ["enumerate", "zip", "reversed"]
+
+VIEWS = ["items", "keys", "values"]
+
+CHANGING = "append clear extend insert pop remove reverse setdefault sort update add discard".split()
+
 
 def nodes(*kinds):
     return [(name, node) for name, tree in TREES.items() for node in ast.walk(tree) if isinstance(node, kinds)]
@@ -63,6 +69,59 @@ def is_plain(call):
     if isinstance(first, ast.List):
         return all(is_number(part) for part in first.elts)
     return keys in (["int"], ["len"]) or len(call.args) == 2 and isinstance(first, ast.Constant)
+
+
+def parts_of(node):
+    """The plain names, fields and items of which the expression may be one: several for a choice."""
+    if isinstance(node, ast.IfExp):
+        return parts_of(node.body) + parts_of(node.orelse)
+    if isinstance(node, ast.BoolOp):
+        return [part for value in node.values for part in parts_of(value)]
+    if isinstance(node, (ast.Name, ast.Attribute, ast.Subscript)):
+        return [ast.unparse(node)]
+    return []
+
+
+def walked(node):
+    """What a loop over the expression walks: also through enumerate, zip, reversed and the views of a dict."""
+    if isinstance(node, ast.Call) and isinstance(node.func, ast.Name) and node.func.id in SEEN_THROUGH:
+        return [part for argument in node.args for part in walked(argument)]
+    if isinstance(node, ast.Call) and isinstance(node.func, ast.Attribute) and node.func.attr in VIEWS:
+        return parts_of(node.func.value)
+    return parts_of(node)
+
+
+def changed(node):
+    """What the statement or call changes in place."""
+    if isinstance(node, ast.Subscript) and not isinstance(node.ctx, ast.Load):
+        return parts_of(node.value)
+    if isinstance(node, ast.AugAssign):
+        return parts_of(node.target)
+    if isinstance(node, ast.Call) and isinstance(node.func, ast.Attribute) and node.func.attr in CHANGING:
+        return parts_of(node.func.value)
+    return []
+
+
+def names_in_common(function):
+    """For each name in the function those that it shares a value with by plain assignments, itself included."""
+    shared = {}
+    for node in ast.walk(function):
+        if isinstance(node, ast.Assign):
+            for part in [part for target in node.targets for part in parts_of(target)]:
+                for other in parts_of(node.value):
+                    both = shared.get(part, {part}) | shared.get(other, {other})
+                    shared.update({name: both for name in both})
+    return shared
+
+
+def walked_and_changed(function):
+    """The rows in which a loop of the function changes what it walks, by any name that stands for it."""
+    shared = names_in_common(function)
+    rows = []
+    for loop in [node for node in ast.walk(function) if isinstance(node, ast.For)]:
+        names = set().union(*[shared.get(part, {part}) for part in walked(loop.iter)])
+        rows += [node.lineno for row in loop.body for node in ast.walk(row) if names & set(changed(node))]
+    return sorted(rows)
 
 
 class Class:
@@ -217,6 +276,32 @@ class Classes(unittest.TestCase):
     def test_only_own_errors_are_caught(self):
         for name, node in nodes(ast.ExceptHandler):
             self.assertIn(node.type.id, CLASSES, f"{name} {node.lineno}")
+
+
+class Loops(unittest.TestCase):
+    def test_no_loop_changes_what_it_walks(self):
+        # L23: also where the list that is changed gets the name of the one that is walked after the loop.
+        for name, node in nodes(ast.FunctionDef):
+            self.assertEqual(walked_and_changed(node), [], f"{name} {node.name}")
+
+    def test_what_the_test_above_finds(self):
+        for text, rows in (
+            ("for x in xs:\n  xs.append(x)", [3]),
+            ("for x in list(xs):\n  xs.append(x)", []),
+            ("for k, x in enumerate(xs):\n  xs[k] = x", [3]),
+            ("for x, y in zip(ys, xs):\n  del xs[0]", [3]),
+            ("for k in d.keys():\n  d.pop(k)", [3]),
+            ("for x in xs or ys:\n  ys += [x]", [3]),
+            ("for x in self.rows:\n  self.rows.append(x)", [3]),
+            ("rows = self.rows\nfor x in self.rows:\n  rows.append(x)", [4]),
+            ("for x in xs:\n  ys.append(x)", []),
+            ("while xs:\n  ys = []\n  for x in xs:\n    ys.append(x)\n  xs = ys", [5]),
+            ("while xs:\n  ys = []\n  for x in xs:\n    ys.append(x)\n  zs = ys\n  xs = zs", [5]),
+            ("while xs:\n  ys = []\n  for x in xs:\n    ys.append(x)\n  xs = list(ys)", []),
+        ):
+            lines = "\n".join("  " + line for line in text.split("\n"))
+            [function] = ast.parse("def f(self, xs, ys, d):\n" + lines).body
+            self.assertEqual(walked_and_changed(function), rows, text)
 
 
 class Values(unittest.TestCase):

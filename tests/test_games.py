@@ -1,6 +1,7 @@
 """Points 31, 32 and 33 and the interface of onecable/games.py."""
 
 import unittest
+from itertools import combinations
 
 from onecable.claims import Claims, next_claims, no_plan_at
 from onecable.errors import (BadRow, CableError, NoPlan, NotHeld, TooManyStates, Unbeaten, UnknownState)
@@ -147,6 +148,17 @@ class Answers(GameTest):
         self.assertEqual(after[0], ((3, 1), (3, 1), (3, 2)))
         pairs = Game(yard).answers(after, 0)
         self.assertEqual([answer for answer, _ in pairs], [((3, 1), (3, 1)), ((3, 1), (3, 2))])
+
+    def test_three_of_several_pairs(self):
+        kinds = [Kind("a", 4, 1), Kind("b", 4, 2), Kind("c", 3, 2)]
+        yard = make_yard(3, *kinds, x=["b", "c", "b"], y=["a", "b", "a"])
+        game = Game(yard, most=2000)
+        [answer, waiting] = game.answers(((), no_claims(yard)), 1)[0]
+        self.assertEqual(answer, ((3, 2), (4, 2), (4, 2)))
+        self.assertEqual(waiting[0], ((2, 1), (3, 1), (3, 1)))
+        there = ((2, 1), (3, 1), (3, 1), (4, 1), (4, 1), (4, 2))
+        self.assertEqual([answer for answer, _ in game.answers(waiting, 2)],
+                         sorted(set(combinations(there, 3))))
 
     def test_all_are_served_if_there_are_fewer_than_the_width(self):
         yard = make_yard(3, Kind("a", 2, 1), Kind("b", 3, 2), x=["a", "b"])
